@@ -1,0 +1,1 @@
+"""Edenrow: rows of cells without end, changed by local rules, exactly."""
