@@ -70,3 +70,120 @@ def widened(one, before, behind):
     for word in words(size, before + width + behind):
         wide.append(table[number_of(size, word[before:before + width])])
     return (size, offset - before, width + before + behind, wide)
+
+
+def random_machine(rng, size, states, many):
+    """A machine with at most so many arrows."""
+    arrows = set()
+    for _ in range(many if states else 0):
+        arrows.add((rng.randrange(states), rng.randrange(size), rng.randrange(states)))
+    return (size, states, sorted(arrows))
+
+
+def ends_of_paths(machine, starts, word):
+    """The set of the states to which paths with a word lead, by looking at all arrows."""
+    here = set(starts)
+    for cell in word:
+        here = {target for source, label, target in machine[2] if source in here and label == cell}
+    return frozenset(here)
+
+
+def is_read(machine, word):
+    return len(ends_of_paths(machine, range(machine[1]), word)) > 0
+
+
+def sets_reached(machine):
+    """The sets that are not empty, in the order in which they are first found."""
+    everything = frozenset(range(machine[1]))
+    found = [everything] if everything else []
+    for states in found:
+        for cell in range(machine[0]):
+            after = ends_of_paths(machine, states, [cell])
+            if after and after not in found:
+                found.append(after)
+    return found
+
+
+def least_word(size, wanted, longest):
+    """The least word of at most so many cells for which the function wanted is true, or None."""
+    for length in range(longest + 1):
+        for word in words(size, length):
+            if wanted(word):
+                return word
+    return None
+
+
+def trimmed_by_rounds(machine):
+    """The trimmed machine: look at all states, remove one, and look at all again."""
+    size, states, arrows = machine
+    kept = list(range(states))
+    while True:
+        sources = {source for source, _, _ in arrows}
+        targets = {target for _, _, target in arrows}
+        lost = [state for state in kept if state not in sources or state not in targets]
+        if not lost:
+            break
+        kept.remove(lost[-1])
+        arrows = [arrow for arrow in arrows if lost[-1] not in (arrow[0], arrow[2])]
+    return (size, len(kept), [(kept.index(s), cell, kept.index(t)) for s, cell, t in arrows])
+
+
+def image_arrows(one):
+    """The arrows of the image machine, window by window."""
+    size, _, width, table = one
+    arrows = set()
+    for word in words(size, width):
+        source, target = number_of(size, word[:-1]), number_of(size, word[1:])
+        arrows.add((source, table[number_of(size, word)], target))
+    return sorted(arrows)
+
+
+def permuting_map(rng, size, width):
+    """A map whose new cell is a permutation of the last cell of the window, so that it has no orphan."""
+    table = []
+    for _ in range(size ** (width - 1)):
+        part = list(range(size))
+        rng.shuffle(part)
+        table.extend(part)
+    return (size, rng.randint(-3, 3), width, table)
+
+
+def nearly_permuting_map(rng, size, width):
+    """One cell away from a permuting map, so that orphans and diamonds may be long."""
+    one = permuting_map(rng, size, width)
+    one[3][rng.randrange(size ** width)] = rng.randrange(size)
+    return one
+
+
+def pairs_found(one, s, t):
+    """The pairs that point 19 finds after two states, also of equal states."""
+    size, _, width, table = one
+    first, second = words(size, width - 1)[s], words(size, width - 1)[t]
+    found = set()
+    for a in range(size):
+        for b in range(size):
+            if s == t and a == b:
+                continue
+            left, right = first + [a], second + [b]
+            if table[number_of(size, left)] == table[number_of(size, right)]:
+                ends = [number_of(size, left[1:]), number_of(size, right[1:])]
+                found.add((min(ends), max(ends)))
+    return found
+
+
+def least_diamond_of(one, longest):
+    """The least diamond with at most so many cells, by looking at all pairs of words, or None."""
+    size, _, width, table = one
+    head = width - 1
+
+    def image(word):
+        windows = [word[at:at + width] for at in range(len(word) - width + 1)]
+        return [table[number_of(size, window)] for window in windows]
+
+    for length in range(2 * width - 1, longest + 1):
+        for first in words(size, length):
+            for middle in words(size, length - 2 * head):
+                second = first[:head] + middle + first[length - head:]
+                if first < second and image(first) == image(second):
+                    return (first, second)
+    return None

@@ -4,14 +4,22 @@ import copy
 import inspect
 import unittest
 
-from edenrow import maps, rows
-from edenrow.errors import BadMap, OutOfRange
+from edenrow import machines, maps, pairs, reach, rows
+from edenrow.errors import BadMachine, BadMap, OutOfRange, TooLong
 
 DIFFER = (2, 0, 2, [0, 1, 1, 0])
 KEEP = (2, 0, 1, [0, 1])
 LAST = (2, 0, 2, [0, 1, 0, 1])
 SPREAD = (0, 3, [0, 1, 1, 0])
 SIMPLE = (0, 3, [1, 0, 1])
+BOTH = (2, 0, 2, [0, 0, 0, 1])
+FIRST = (2, 0, 2, [0, 0, 1, 1])
+FULL = (2, 1, [(0, 0, 0), (0, 1, 0)])
+SPARSE = (2, 2, [(0, 0, 0), (0, 1, 1), (1, 0, 0)])
+CHAIN = (2, 4, [(0, 0, 0), (0, 1, 1), (1, 0, 0), (1, 1, 2), (2, 0, 3)])
+NO_STATES = (2, 0, [])
+FOUR_STEPS = (2, 0, 4, [0, 1] * 8)
+GREAT = (2, 0, 9, [0, 1] * 256)
 
 # Each function with arguments that it takes; they are copied for each call.
 CALLS = [
@@ -51,6 +59,47 @@ CALLS = [
     (rows.spread_simple, ((1, 0, []),)),
     (rows.spread_simple, ((1, 4, [1]),)),
     (rows.spread_cell, (SPREAD, 4)),
+    (machines.check_machine, (SPARSE,)),
+    (machines.check_machine, (NO_STATES,)),
+    (machines.trimmed, (SPARSE,)),
+    (machines.trimmed, (CHAIN,)),
+    (machines.trimmed, (NO_STATES,)),
+    (machines.states_after, (SPARSE, [1, 0], [0, 1])),
+    (machines.states_after, (SPARSE, [0, 1], [])),
+    (machines.states_after, (SPARSE, [], [])),
+    (machines.reads, (SPARSE, [0, 1])),
+    (machines.reads, (SPARSE, [1, 1])),
+    (machines.least_lost, (SPARSE,)),
+    (machines.least_lost, (FULL,)),
+    (machines.least_lost, (NO_STATES,)),
+    (machines.least_other, (FULL, SPARSE)),
+    (machines.least_other, (SPARSE, FULL)),
+    (machines.least_other, (FULL, NO_STATES)),
+    (machines.same_rows, (SPARSE, CHAIN)),
+    (machines.same_rows, (SPARSE, FULL)),
+    (machines.image_machine, (DIFFER,)),
+    (machines.image_machine, (KEEP,)),
+    (reach.reach_table, (KEEP,)),
+    (reach.reach_table, (FOUR_STEPS,)),
+    (reach.reach_table, (BOTH,)),
+    (reach.is_reach_table, (DIFFER, [[0, 1], [0], [1]])),
+    (reach.is_reach_table, (DIFFER, [[0, 1], [1, 0], [2]])),
+    (reach.is_orphan, (BOTH, [1, 0, 1])),
+    (reach.is_orphan, (BOTH, [])),
+    (reach.decide_reach, (FOUR_STEPS,)),
+    (reach.decide_reach, (BOTH,)),
+    (pairs.diamond_table, (FIRST,)),
+    (pairs.diamond_table, (DIFFER,)),
+    (pairs.diamond_table, (BOTH,)),
+    (pairs.least_diamond, (BOTH,)),
+    (pairs.least_diamond, ((3, 0, 1, [2, 2, 0]),)),
+    (pairs.least_diamond, (FIRST,)),
+    (pairs.is_diamond_table, (FIRST, [(0, 1)])),
+    (pairs.is_diamond_table, (FIRST, [(1, 0), (0, 1)])),
+    (pairs.is_diamond, (BOTH, [0, 0, 0], [0, 1, 0])),
+    (pairs.is_diamond, (BOTH, [0, 1, 0], [0, 0, 0])),
+    (pairs.decide_finite, (FIRST,)),
+    (pairs.decide_finite, (BOTH,)),
 ]
 
 REFUSED = [
@@ -58,7 +107,27 @@ REFUSED = [
     (maps.reduced, ((2, 100, 2, [0, 1, 0, 1]),), OutOfRange),
     (maps.composed, (DIFFER, (3, 0, 1, [0, 1, 2])), OutOfRange),
     (maps.power, (DIFFER, 12), OutOfRange),
+    (machines.check_machine, ((2, 1, [(0, 1, 0), (0, 0, 0)]),), BadMachine),
+    (machines.least_other, (SPARSE, (3, 2, [(0, 0, 0), (1, 0, 0)])), OutOfRange),
+    (machines.same_rows, (SPARSE, (3, 2, [(0, 0, 0), (1, 0, 0)])), OutOfRange),
+    (pairs.diamond_table, (GREAT,), TooLong),
+    (pairs.least_diamond, (GREAT,), TooLong),
+    (pairs.is_diamond_table, (GREAT, [(3, 4), (1, 2)]), TooLong),
+    (pairs.decide_finite, (GREAT,), TooLong),
 ]
+
+# The functions that answer with True or False.
+TRUTHS = [
+    maps.same_map,
+    machines.reads,
+    machines.same_rows,
+    reach.is_reach_table,
+    reach.is_orphan,
+    pairs.is_diamond_table,
+    pairs.is_diamond,
+]
+# The functions whose answer is a tuple that begins with "yes" or "no".
+ANSWERS = [reach.decide_reach, pairs.decide_finite]
 
 NAMES = {
     maps: {
@@ -78,6 +147,29 @@ NAMES = {
         "spread_image": ["one", "row"],
         "spread_simple": ["row"],
         "spread_cell": ["row", "place"],
+    },
+    machines: {
+        "check_machine": ["machine"],
+        "trimmed": ["machine"],
+        "states_after": ["machine", "states", "word"],
+        "reads": ["machine", "word"],
+        "least_lost": ["machine"],
+        "least_other": ["machine", "other"],
+        "same_rows": ["machine", "other"],
+        "image_machine": ["one"],
+    },
+    reach: {
+        "reach_table": ["one"],
+        "is_reach_table": ["one", "table"],
+        "is_orphan": ["one", "word"],
+        "decide_reach": ["one"],
+    },
+    pairs: {
+        "diamond_table": ["one"],
+        "least_diamond": ["one"],
+        "is_diamond_table": ["one", "table"],
+        "is_diamond": ["one", "first", "second"],
+        "decide_finite": ["one"],
     },
 }
 
@@ -151,11 +243,29 @@ class ValuesTest(unittest.TestCase):
     def test_kinds_of_values(self):
         for function, given in CALLS:
             result = function(*copy.deepcopy(given))
-            for part in [result] + list(result if isinstance(result, tuple) else []):
-                if function is maps.same_map:
-                    self.assertIs(part.__class__, bool)
-                elif part is not None:
-                    self.assertIn(part.__class__, (int, list, tuple))
+            if function in TRUTHS:
+                self.assertIs(result.__class__, bool, function.__name__)
+                continue
+            if function in ANSWERS:
+                self.assertIs(result.__class__, tuple)
+                self.assertIn(result[0], ["yes", "no"])
+                result = result[1:]
+            self.check_kinds(function, [] if result is None else [result])
+
+    def check_kinds(self, function, values):
+        for value in values:
+            self.assertIn(value.__class__, (int, list, tuple), function.__name__)
+            if value.__class__ is not int:
+                self.check_kinds(function, value)
+
+    def test_one_machine_and_one_word_passed_twice(self):
+        word = [0, 1, 0]
+        self.assertIsNone(machines.least_other(SPARSE, SPARSE))
+        self.assertIs(machines.same_rows(CHAIN, CHAIN), True)
+        self.assertIs(pairs.is_diamond(BOTH, word, word), False)
+        self.assertEqual(machines.states_after(SPARSE, word, word), [0])
+        self.assertIs(reach.is_reach_table(FIRST, [word[:2]] * 2), False)
+        self.assertEqual(word, [0, 1, 0])
 
     def test_names_arguments_and_files(self):
         for module, functions in NAMES.items():
