@@ -5,6 +5,7 @@ from edenrow.errors import BadMap, OutOfRange
 LEAST_SIZE = 2
 MOST_SIZE = 4
 MOST_CELLS = 4096
+MOST_WORDS = 65536
 MOST_OFFSET = 100
 
 

@@ -187,3 +187,96 @@ def least_diamond_of(one, longest):
                 if first < second and image(first) == image(second):
                     return (first, second)
     return None
+
+
+def told_cells(one, low, length):
+    """The cells at the place 0 by the image words at the places from low on, or None.
+
+    The offset of the map is taken as 0. None is returned if two rows have such an image word in
+    common, but not the cell at the place 0, or if some word is no image.
+    """
+    size, _, width, table = one
+    first = min(low, 0)
+    last = max(low + length + width - 2, 0)
+    told = {}
+    for word in words(size, last - first + 1):
+        image = [
+            table[number_of(size, word[place - first:place - first + width])]
+            for place in range(low, low + length)
+        ]
+        cell = word[-first]
+        if told.setdefault(tuple(image), cell) != cell:
+            return None
+    if len(told) < size ** length:
+        return None
+    return [told[tuple(image)] for image in words(size, length)]
+
+
+def inverse_by_search(one, longest):
+    """The inverse whose window is shortest, with at most so many cells, or None."""
+    size, offset, width, _ = one
+    for length in range(1, longest + 1):
+        # An image cell beyond these places has no window with the place 0 in it.
+        for low in range(-(width - 1) - length + 1, 1):
+            table = told_cells(one, low, length)
+            if table is not None:
+                return (size, low - offset, length, table)
+    return None
+
+
+def has_inverse(one):
+    """Whether no two different rows have one image: no path without end passes two different windows."""
+    size, _, width, table = one
+    windows = words(size, width)
+    steps = set()
+    for first in windows:
+        for second in windows:
+            if table[number_of(size, first)] == table[number_of(size, second)]:
+                steps.add((tuple(first), tuple(second)))
+    while True:
+        sources = {(first[:-1], second[:-1]) for first, second in steps}
+        targets = {(first[1:], second[1:]) for first, second in steps}
+        kept = {
+            (first, second)
+            for first, second in steps
+            if (first[:-1], second[:-1]) in targets and (first[1:], second[1:]) in sources
+        }
+        if kept == steps:
+            return all(first == second for first, second in steps)
+        steps = kept
+
+
+def undoes(one, other):
+    """Whether changing rows by the first map and then by the other one keeps every row."""
+    low = min(0, one[1] + other[1])
+    high = max(0, one[1] + other[1] + one[2] + other[2] - 2)
+    for word in words(one[0], high - low + 1):
+        def cell_at(place):
+            return word[place - low]
+        if cell_of_image(other, image_reader(one, cell_at), 0) != cell_at(0):
+            return False
+    return True
+
+
+def blocks_of(row, length):
+    """The blocks of a round row, one for each place."""
+    return [[row[(place + at) % len(row)] for at in range(length)] for place in range(len(row))]
+
+
+def sum_of(size, measure, length, row):
+    """The sum of a measure over a round row, block by block."""
+    return sum(measure[number_of(size, block)] for block in blocks_of(row, length))
+
+
+def round_rows(size, longest):
+    """All round rows with at most so many cells."""
+    return [row for length in range(1, longest + 1) for row in words(size, length)]
+
+
+def is_kept(one, measure, length, longest):
+    """Whether the sums over all round rows with at most so many cells stay."""
+    size = one[0]
+    for row in round_rows(size, longest):
+        if sum_of(size, measure, length, row) != sum_of(size, measure, length, round_image_of(one, row)):
+            return False
+    return True

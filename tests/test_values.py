@@ -4,8 +4,8 @@ import copy
 import inspect
 import unittest
 
-from edenrow import machines, maps, pairs, reach, rows
-from edenrow.errors import BadMachine, BadMap, OutOfRange, TooLong
+from edenrow import desk, inverse, machines, maps, pairs, patterns, reach, rows, sums
+from edenrow.errors import BadCommand, BadMachine, BadMap, OutOfRange, TooLong
 
 DIFFER = (2, 0, 2, [0, 1, 1, 0])
 KEEP = (2, 0, 1, [0, 1])
@@ -20,6 +20,21 @@ CHAIN = (2, 4, [(0, 0, 0), (0, 1, 1), (1, 0, 0), (1, 1, 2), (2, 0, 3)])
 NO_STATES = (2, 0, [])
 FOUR_STEPS = (2, 0, 4, [0, 1] * 8)
 GREAT = (2, 0, 9, [0, 1] * 256)
+MOVING = (4, 0, 2, [0, 1, 0, 1, 0, 1, 0, 1, 2, 3, 2, 3, 2, 3, 2, 3])
+MOVING_BACK = (4, -1, 2, [0, 0, 2, 2, 1, 1, 3, 3] * 2)
+
+
+def return_within(one, row, most):
+    return patterns.return_of(one, row, most=most)
+
+
+def patterns_within(one, length, most):
+    return patterns.patterns(one, length, most=most)
+
+
+def asked(one, command):
+    return desk.Desk(one).ask(command)
+
 
 # Each function with arguments that it takes; they are copied for each call.
 CALLS = [
@@ -100,6 +115,44 @@ CALLS = [
     (pairs.is_diamond, (BOTH, [0, 1, 0], [0, 0, 0])),
     (pairs.decide_finite, (FIRST,)),
     (pairs.decide_finite, (BOTH,)),
+    (inverse.is_twins, (DIFFER, [0, 1, 1], [1, 0, 0])),
+    (inverse.is_twins, (DIFFER, [], [1, 0, 0])),
+    (inverse.is_inverse, (MOVING, MOVING_BACK)),
+    (inverse.is_inverse, (KEEP, LAST)),
+    (inverse.decide_reversible, (KEEP,)),
+    (inverse.decide_reversible, (MOVING,)),
+    (inverse.decide_reversible, (DIFFER,)),
+    (inverse.decide_reversible, (BOTH,)),
+    (inverse.decide_reversible, ((3, 0, 1, [2, 2, 0]),)),
+    (sums.sum_over, (2, [0, 1, 2, 3], [0, 1, 1])),
+    (sums.sum_over, (2, [0, 1], [1])),
+    (sums.flow_of, (KEEP, [3, 5])),
+    (sums.flow_of, (LAST, [0, 0, 1, 1])),
+    (sums.flow_of, (DIFFER, [0, 1])),
+    (sums.is_flow, (LAST, [0, 1], [0, 1])),
+    (sums.is_flow, (LAST, [0, 1], [1, 1])),
+    (sums.is_flow, (LAST, [0, 1], [])),
+    (sums.normal_form, (2, [3, 5])),
+    (sums.normal_form, (2, [0, 0, 1, 1])),
+    (sums.normal_form, (2, [0, 1, 0, 1])),
+    (sums.kept_sums, (KEEP, 1)),
+    (sums.kept_sums, (KEEP, 3)),
+    (sums.kept_sums, (DIFFER, 2)),
+    (return_within, (KEEP, SPREAD, 3)),
+    (return_within, (KEEP, SIMPLE, 3)),
+    (return_within, (DIFFER, SIMPLE, 3)),
+    (patterns_within, (KEEP, 3, 3)),
+    (patterns_within, (DIFFER, 3, 3)),
+    (patterns_within, (DIFFER, 0, 0)),
+    (asked, (DIFFER, "reach")),
+    (asked, (FIRST, "finite")),
+    (asked, (MOVING, "reverse")),
+    (asked, (LAST, "sums 2")),
+    (asked, (DIFFER, "image 0 1 1")),
+    (asked, (DIFFER, "after 3 0 1 1")),
+    (asked, (DIFFER, "power 0")),
+    (asked, (DIFFER, "power 1")),
+    (asked, (DIFFER, "power 5")),
 ]
 
 REFUSED = [
@@ -114,6 +167,24 @@ REFUSED = [
     (pairs.least_diamond, (GREAT,), TooLong),
     (pairs.is_diamond_table, (GREAT, [(3, 4), (1, 2)]), TooLong),
     (pairs.decide_finite, (GREAT,), TooLong),
+    (inverse.is_inverse, (GREAT, GREAT), TooLong),
+    (inverse.decide_reversible, (GREAT,), TooLong),
+    (inverse.decide_reversible, ((2, 100, 2, [0, 1, 0, 1]),), TooLong),
+    (sums.sum_over, (2, [0, 1, 2], [0]), OutOfRange),
+    (sums.flow_of, (DIFFER, [0, 1, 2]), OutOfRange),
+    (sums.flow_of, (GREAT, [0] * 512), TooLong),
+    (sums.is_flow, (DIFFER, [1], [0, 0]), OutOfRange),
+    (sums.is_flow, (GREAT, [0] * 512, [0, 0]), TooLong),
+    (sums.normal_form, (3, [0, 1, 2, 3]), OutOfRange),
+    (sums.kept_sums, (DIFFER, 0), OutOfRange),
+    (sums.kept_sums, (GREAT, 2), TooLong),
+    (return_within, (KEEP, SPREAD, -1), OutOfRange),
+    (patterns_within, (KEEP, -1, 3), OutOfRange),
+    (patterns_within, (KEEP, 13, 3), TooLong),
+    (asked, ((2, 0, 1, [0, 2]), "reach"), BadMap),
+    (asked, (DIFFER, "image 2"), BadCommand),
+    (asked, (DIFFER, "power 12"), OutOfRange),
+    (asked, (GREAT, "reverse"), TooLong),
 ]
 
 # The functions that answer with True or False.
@@ -125,9 +196,12 @@ TRUTHS = [
     reach.is_orphan,
     pairs.is_diamond_table,
     pairs.is_diamond,
+    inverse.is_twins,
+    inverse.is_inverse,
+    sums.is_flow,
 ]
 # The functions whose answer is a tuple that begins with "yes" or "no".
-ANSWERS = [reach.decide_reach, pairs.decide_finite]
+ANSWERS = [reach.decide_reach, pairs.decide_finite, inverse.decide_reversible]
 
 NAMES = {
     maps: {
@@ -170,6 +244,22 @@ NAMES = {
         "is_diamond_table": ["one", "table"],
         "is_diamond": ["one", "first", "second"],
         "decide_finite": ["one"],
+    },
+    inverse: {
+        "is_twins": ["one", "first", "second"],
+        "is_inverse": ["one", "other"],
+        "decide_reversible": ["one"],
+    },
+    sums: {
+        "sum_over": ["size", "measure", "row"],
+        "flow_of": ["one", "measure"],
+        "is_flow": ["one", "measure", "flow"],
+        "normal_form": ["size", "measure"],
+        "kept_sums": ["one", "length"],
+    },
+    patterns: {
+        "return_of": ["one", "row", "most"],
+        "patterns": ["one", "length", "most"],
     },
 }
 
@@ -243,6 +333,9 @@ class ValuesTest(unittest.TestCase):
     def test_kinds_of_values(self):
         for function, given in CALLS:
             result = function(*copy.deepcopy(given))
+            if function is asked:
+                self.assertIs(result.__class__, str)
+                continue
             if function in TRUTHS:
                 self.assertIs(result.__class__, bool, function.__name__)
                 continue
@@ -274,6 +367,21 @@ class ValuesTest(unittest.TestCase):
                 self.assertTrue(inspect.isfunction(function))
                 self.assertEqual(function.__module__, module.__name__)
                 self.assertEqual(list(inspect.signature(function).parameters), parameters)
+
+    def test_what_is_passed_by_keyword(self):
+        for function in [patterns.return_of, patterns.patterns]:
+            parameters = inspect.signature(function).parameters.values()
+            kinds = [parameter.kind for parameter in parameters]
+            self.assertEqual(kinds[2], inspect.Parameter.KEYWORD_ONLY)
+            self.assertEqual(kinds[:2], [inspect.Parameter.POSITIONAL_OR_KEYWORD] * 2)
+            for parameter in inspect.signature(function).parameters.values():
+                self.assertIs(parameter.default, inspect.Parameter.empty)
+
+    def test_the_desk(self):
+        self.assertEqual(desk.Desk.__module__, "edenrow.desk")
+        self.assertEqual(list(inspect.signature(desk.Desk).parameters), ["one"])
+        self.assertTrue(inspect.isfunction(vars(desk.Desk)["ask"]))
+        self.assertEqual(list(inspect.signature(desk.Desk.ask).parameters), ["self", "command"])
 
 
 if __name__ == "__main__":
