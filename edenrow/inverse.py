@@ -40,7 +40,8 @@ def is_inverse(one, other):
 
 def decide_reversible(one):
     """Return "yes" and the reduced inverse, or "no" and twins, the lesser one first."""
-    # Both words of a diamond begin and end alike, so that they are twins as round rows, too.
+    # Both words of a diamond begin and end alike, so that they are twins as round rows, too. The
+    # search for it is refused for the same maps as this question.
     twins = least_diamond(one)
     if twins is None:
         twins = twins_apart(one)
@@ -74,7 +75,7 @@ def twins_apart(one):
 
 
 def round_path(one, endless):
-    """Return the cells of both sides of a path that goes round through pairs, all of which go on in them."""
+    """Return the cells of both sides of a path that goes round through pairs that go on without end."""
     size = one[0]
     states = count_states(one)
     # In one order the states of a pair may come back turned, so that both orders are told apart.
@@ -91,7 +92,7 @@ def round_path(one, endless):
 
 
 def endless_step(one, endless, here):
-    """Return the first two windows from two states that lead to a pair that goes on without end."""
+    """Return two windows that lead from two states to a pair that goes on without end."""
     states = count_states(one)
     steps = [
         (window, other)
